@@ -22,6 +22,36 @@ SIGNATURES = {
         "lot_text": "(lot)",
         "read_lot": "(text)",
     },
+    "hamperlot.counting": {
+        "how_many": "(lot, bill)",
+        "fillings": "(lot, bill, *, most=400)",
+        "filling_at": "(lot, bill, place)",
+        "place_of": "(lot, bill, counts)",
+        "counts_of_bills": "(lot, bill)",
+        "how_many_of_one": "(lot, amount)",
+    },
+    "hamperlot.swaps": {
+        "is_swap": "(lot, change)",
+        "look_change": "(lot, change)",
+        "conforms": "(one, other)",
+        "ground": "(lot)",
+        "rings": "(lot)",
+        "parts": "(lot, change)",
+        "spanning": "(lot)",
+    },
+    "hamperlot.betterings": {
+        "betterings": "(lot, *, wish=(), loose=True)",
+        "best_load": "(lot, bill, *, wish=())",
+        "best_filling": "(lot, bill, *, wish=())",
+        "worth_of": "(lot, counts, *, wish=())",
+        "fits": "(load, needy)",
+    },
+    "hamperlot.moves": {
+        "lumps": "(lot, bill)",
+        "moves": "(lot)",
+        "needed": "(lot)",
+        "way": "(lot, one, other)",
+    },
 }
 CLASSES = {
     "hamperlot.errors": (

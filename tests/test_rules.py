@@ -1,6 +1,7 @@
 """Those rules for the package's files that can be seen without following the code."""
 
 import ast
+import builtins
 import pathlib
 import re
 import unittest
@@ -47,6 +48,42 @@ class RulesTest(unittest.TestCase):
                     self.assertRegex(node.module, r"^hamperlot\.\w+$")
                     self.assertEqual(node.level, 0)
                     self.assertLessEqual({alias.name for alias in node.names}, self.bound(node.module))
+
+    def test_no_name_has_two_meanings(self):
+        for path in files():
+            tree = ast.parse(path.read_text())
+            taken = set(dir(builtins)) | {node.name for node in tree.body if isinstance(node, ast.ClassDef)}
+            for node in tree.body:
+                if isinstance(node, ast.ImportFrom):
+                    taken |= {alias.name for alias in node.names}
+            for node in ast.walk(tree):
+                name = node.arg if isinstance(node, ast.arg) else None
+                if isinstance(node, ast.Name) and isinstance(node.ctx, ast.Store):
+                    name = node.id
+                if name is not None:
+                    self.assertNotIn(name, taken, path.name)
+                    self.assertFalse(name.startswith("_"), (path.name, name))
+
+    def test_no_module_name_is_bound_twice(self):
+        for path in files():
+            tree = ast.parse(path.read_text())
+            names = [node.name for node in tree.body if isinstance(node, (ast.FunctionDef, ast.ClassDef))]
+            names += [node.targets[0].id for node in tree.body if isinstance(node, ast.Assign)]
+            for node in tree.body:
+                names += [alias.name for alias in node.names] if isinstance(node, ast.ImportFrom) else []
+            self.assertEqual(len(names), len(set(names)), path.name)
+
+    def test_plain_expressions(self):
+        barred = (ast.GeneratorExp, ast.Div, ast.Yield, ast.Global, ast.Await, ast.AsyncFunctionDef)
+        for path in files():
+            for node in ast.walk(ast.parse(path.read_text())):
+                self.assertNotIsInstance(node, barred, path.name)
+                if isinstance(node, ast.Constant):
+                    self.assertNotIsInstance(node.value, float, path.name)
+                if isinstance(node, ast.Compare) and isinstance(node.ops[0], (ast.Is, ast.IsNot)):
+                    self.assertIn(ast.unparse(node.comparators[0]), ("None", "True", "False"), path.name)
+                if isinstance(node, ast.Attribute):
+                    self.assertNotIn(node.attr, ("sort", "add", "discard"), path.name)
 
     def bound(self, module):
         """The names that a file defines itself."""
