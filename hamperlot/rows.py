@@ -34,3 +34,8 @@ def is_nought(row):
 def marks(row):
     """The places where a row has a number other than 0, as the bits of one number."""
     return sum([1 << place for place, number in enumerate(row) if number != 0])
+
+
+def weighed(row, other):
+    """The sum of a row's numbers, each times the other row's."""
+    return sum([number * weight for number, weight in zip(row, other)])

@@ -52,12 +52,86 @@ SIGNATURES = {
         "needed": "(lot)",
         "way": "(lot, one, other)",
     },
+    "hamperlot.barring": {
+        "prices": "(lot, bill)",
+        "rests": "(lot, bill)",
+        "prices_hold": "(lot, bill, paper)",
+        "rests_hold": "(lot, bill, paper)",
+        "why_not": "(lot, bill)",
+        "measure": "(lot)",
+        "gaps": "(lot)",
+        "unlike": "(one, other)",
+    },
+    "hamperlot.pages": {
+        "page": "(yard)",
+        "read_page": "(text)",
+    },
+}
+METHODS = {
+    ("hamperlot.picker", "Picker"): {
+        "__init__": "(self, lot, bill, *, wish=())",
+        "lot": "(self)",
+        "bill": "(self)",
+        "wish": "(self)",
+        "counts": "(self)",
+        "loose": "(self)",
+        "pack": "(self, kind, *, times=1)",
+        "unpack": "(self, kind, *, times=1)",
+        "swap": "(self, change, *, times=1)",
+        "better": "(self)",
+        "finish": "(self)",
+        "grow": "(self, goods)",
+        "undo": "(self)",
+        "redo": "(self)",
+        "is_best": "(self)",
+        "left": "(self)",
+        "twin": "(self)",
+        "hampers": "(self)",
+        "__len__": "(self)",
+        "__eq__": "(self, other)",
+        "__str__": "(self)",
+        "__repr__": "(self)",
+    },
+    ("hamperlot.yard", "Yard"): {
+        "__init__": "(self, *, limit=8)",
+        "lay": "(self, name, lot)",
+        "drop": "(self, name)",
+        "call": "(self, name, fresh)",
+        "put": "(self, name, hold)",
+        "cut": "(self, name, kind)",
+        "turn": "(self, name, order)",
+        "beside": "(self, name, one, other)",
+        "do": "(self, deed)",
+        "all_of": "(self, deeds)",
+        "undo": "(self)",
+        "redo": "(self)",
+        "names": "(self)",
+        "lot": "(self, name)",
+        "steps": "(self)",
+        "ground": "(self, name)",
+        "moves": "(self, name)",
+        "betterings": "(self, name, *, wish=())",
+        "kept": "(self)",
+        "made": "(self)",
+        "twin": "(self)",
+        "__len__": "(self)",
+        "__eq__": "(self, other)",
+        "__str__": "(self)",
+        "__repr__": "(self)",
+    },
+}
+NUMBERS = {
+    "hamperlot.lots": {"MOST_KINDS": 5, "MOST_GOODS": 3, "MOST_HOLD": 6, "GREAT": 10 ** 30},
+    "hamperlot.counting": {"MOST_BOX": 4000, "MOST_LISTED": 400},
+    "hamperlot.yard": {"MOST_LOTS": 8},
 }
 CLASSES = {
     "hamperlot.errors": (
         "LotError BadLot BadBill BadWish BadCounts BadSwap BadOrder BadText BadName Taken BadDeed TooMany OtherGoods"
         " Unlike Short Filled Missing NoLot NoKind NoGood NoPlace NothingLeft"
     ).split(),
+    "hamperlot.picker": ["Picker"],
+    "hamperlot.yard": ["Yard"],
 }
 
 
@@ -79,6 +153,20 @@ class InterfaceTest(unittest.TestCase):
                 with self.subTest(file, name=name):
                     self.assertTrue(inspect.isclass(getattr(module, name)))
                     self.assertEqual(getattr(module, name).__module__, file)
+
+    def test_methods_stand_in_the_class_itself(self):
+        for (file, name), methods in METHODS.items():
+            own = vars(getattr(importlib.import_module(file), name))
+            for method, told in methods.items():
+                with self.subTest(file, name=name, method=method):
+                    self.assertTrue(inspect.isfunction(own[method]))
+                    self.assertEqual(str(inspect.signature(own[method])), told)
+
+    def test_numbers(self):
+        for file, numbers in NUMBERS.items():
+            module = importlib.import_module(file)
+            for name, told in numbers.items():
+                self.assertEqual(getattr(module, name), told, name)
 
 
 if __name__ == "__main__":

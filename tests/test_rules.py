@@ -11,6 +11,8 @@ BARRED = re.compile(
     r"\b(type|typing|typing_extensions|enum|Enum|IntEnum|StrEnum|Flag|IntFlag|Generic|Protocol|ABC|ABCMeta|namedtuple"
     r"|NamedTuple|TypedDict|TYPE_CHECKING|abstractmethod)\b|dataclass|overload|contextmanager"
 )
+# Those that the package may call and does.
+BUILTIN_METHODS = set("append bit_length get join partition pop removeprefix setdefault split values".split())
 
 
 def files():
@@ -84,6 +86,56 @@ class RulesTest(unittest.TestCase):
                     self.assertIn(ast.unparse(node.comparators[0]), ("None", "True", "False"), path.name)
                 if isinstance(node, ast.Attribute):
                     self.assertNotIn(node.attr, ("sort", "add", "discard"), path.name)
+
+    def test_no_two_files_import_from_each_other(self):
+        near = {}
+        for path in files():
+            tree = ast.parse(path.read_text())
+            near[path.stem] = {node.module.split(".")[1] for node in tree.body if isinstance(node, ast.ImportFrom)}
+        while near:
+            free = [file for file in near if not near[file] & set(near)]
+            self.assertTrue(free, near)
+            for file in free:
+                del near[file]
+
+    def test_no_import_is_unused(self):
+        for path in files():
+            tree = ast.parse(path.read_text())
+            used = {node.id for node in ast.walk(tree) if isinstance(node, ast.Name)}
+            for node in tree.body:
+                if isinstance(node, ast.ImportFrom):
+                    self.assertLessEqual({alias.name for alias in node.names}, used, path.name)
+
+    def test_no_name_is_a_method_and_an_attribute(self):
+        methods, made, read = set(), set(), set()
+        for path in files():
+            for node in ast.walk(ast.parse(path.read_text())):
+                if isinstance(node, ast.ClassDef):
+                    methods |= {inner.name for inner in node.body if isinstance(inner, ast.FunctionDef)}
+                if isinstance(node, ast.Attribute):
+                    (made if isinstance(node.ctx, ast.Store) else read).add(node.attr)
+        self.assertEqual(methods & made, set())
+        self.assertEqual((methods | made) & BUILTIN_METHODS, set())
+        self.assertLessEqual(read, methods | made | BUILTIN_METHODS)
+
+    def test_forms_of_double_underscore_methods(self):
+        told = {"__init__": (), "__eq__": (ast.BoolOp,), "__len__": (ast.Call,), "__str__": (ast.Call,),
+                "__repr__": (ast.JoinedStr,)}
+        for path in files():
+            for node in ast.walk(ast.parse(path.read_text())):
+                if isinstance(node, ast.FunctionDef) and node.name.startswith("__"):
+                    returns = [inner for inner in ast.walk(node) if isinstance(inner, ast.Return)]
+                    self.assertEqual(tuple(inner.value.__class__ for inner in returns), told[node.name])
+
+    def test_own_errors_alone_are_caught_and_raised_on_the_spot(self):
+        own = self.bound("hamperlot.errors")
+        for path in files():
+            for node in ast.walk(ast.parse(path.read_text())):
+                if isinstance(node, ast.ExceptHandler):
+                    names = {inner.id for inner in ast.walk(node.type) if isinstance(inner, ast.Name)}
+                    self.assertLessEqual(names, own, path.name)
+                if isinstance(node, ast.Raise):
+                    self.assertIn(node.exc.func.id, own, path.name)
 
     def bound(self, module):
         """The names that a file defines itself."""
